@@ -50,15 +50,14 @@ func scaled(x []uint32, times uint32) []uint32 {
 	return multiple
 }
 
-// divStep divides x by y, which has one limb less and is greater than the limbs of x but the lowest one. It returns the quotient, and leaves the remainder in x.
+// divStep divides x by y, which has one limb less and is greater than the limbs of x but the lowest one. It returns the quotient, and leaves the remainder in all limbs of x but the top one, which is not read again.
 func divStep(x, y []uint32) uint32 {
 	guess := guessLimb(x, y)
 	missing := subtract(x[:len(y)], y, guess)
 	if missing > uint64(x[len(y)]) {
 		guess--
-		addBack(x[:len(y)], y)
+		addBack(x, y)
 	}
-	x[len(y)] = 0
 	return uint32(guess)
 }
 
@@ -74,7 +73,7 @@ func guessLimb(x, y []uint32) uint64 {
 	return guess
 }
 
-// addBack adds y to as many limbs x, without the carry behind the last one.
+// addBack adds y to the lowest limbs of x, without the carry above them.
 func addBack(x, y []uint32) {
 	carry := uint32(0)
 	for i, limb := range y {

@@ -15,6 +15,14 @@ func Gcd(x, y Number) Number {
 	return Of(GcdWords(y.word(), rest.word()))
 }
 
+// Word returns the value of a number of at most two limbs, and false for other numbers.
+func (x Number) Word() (uint64, bool) {
+	if len(x.limbs) > 2 {
+		return 0, false
+	}
+	return x.word(), true
+}
+
 // word returns the value of at most two limbs.
 func (x Number) word() uint64 {
 	word := uint64(0)

@@ -152,6 +152,15 @@ func TestParse(t *testing.T) {
 	}
 }
 
+func TestWord(t *testing.T) {
+	for _, word := range []uint64{0, 1, base - 1, base, base*base - 1, base * base, base*base + 1, 1<<64 - 1} {
+		got, ok := Of(word).Word()
+		if fits := word < base*base; ok != fits || fits && got != word || !fits && got != 0 {
+			t.Errorf("Word of %d: got %d, %t", word, got, ok)
+		}
+	}
+}
+
 func TestOf(t *testing.T) {
 	for _, word := range []uint64{0, 1, base - 1, base, base*base - 1, base * base, 1<<64 - 1} {
 		if got := Of(word).Text(); got != new(big.Int).SetUint64(word).String() {

@@ -44,6 +44,15 @@ func Parse(a api.Int) Number {
 	return signed(negative, magnitude)
 }
 
+// Fraction returns the numerator and the denominator of a rational number in canonical notation.
+func Fraction(a api.Rat) (num, den Number) {
+	above, below, found := strings.Cut(string(a), "/")
+	if !found {
+		below = "1"
+	}
+	return Parse(api.Int(above)), Parse(api.Int(below))
+}
+
 // Text returns the canonical notation.
 func (x Number) Text() api.Int {
 	switch {
@@ -53,6 +62,11 @@ func (x Number) Text() api.Int {
 		return api.Int("-" + x.long.magnitude.Text())
 	}
 	return api.Int(x.long.magnitude.Text())
+}
+
+// Digits returns the number of digits, without the sign.
+func (x Number) Digits() int {
+	return x.magnitude().Digits()
 }
 
 // Sign returns -1, 0 or 1.
@@ -173,6 +187,29 @@ func Divide(x, y Number) Number {
 	}
 	quotient, _ := natural.Div(x.magnitude(), y.magnitude())
 	return signed(x.isNegative() != y.isNegative(), quotient)
+}
+
+// Quo returns the quotient of x and y, where y is not 0, rounded down.
+func Quo(x, y Number) Number {
+	return Divide(Sub(x, Rem(x, y)), y)
+}
+
+// Rem returns what the quotient of x and y, where y is not 0, leaves of x: it is 0, or has the sign of y.
+func Rem(x, y Number) Number {
+	rest := remainder(x, y)
+	if !rest.IsZero() && rest.isNegative() != y.isNegative() {
+		return Add(rest, y)
+	}
+	return rest
+}
+
+// remainder returns the remainder of x and y, where y is not 0, with the sign of x.
+func remainder(x, y Number) Number {
+	if x.long == nil && y.long == nil {
+		return Number{word: x.word % y.word}
+	}
+	_, rest := natural.Div(x.magnitude(), y.magnitude())
+	return signed(x.isNegative(), rest)
 }
 
 // Gcd returns the greatest common divisor, which is not negative.

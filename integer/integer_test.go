@@ -64,6 +64,9 @@ func TestNotation(t *testing.T) {
 				want(t, "Parse", x, value)
 				want(t, "Neg", x.Neg(), new(big.Int).Neg(value))
 				want(t, "Abs", x.Abs(), new(big.Int).Abs(value))
+				if digits := len(strings.TrimPrefix(text, "-")); x.Digits() != digits {
+					t.Errorf("%s has %d digits, got %d", text, digits, x.Digits())
+				}
 				if x.Sign() != value.Sign() || x.IsZero() != (value.Sign() == 0) {
 					t.Errorf("the sign of %s is %d", text, x.Sign())
 				}
@@ -74,6 +77,15 @@ func TestNotation(t *testing.T) {
 		want(t, "Of", Of(n), big.NewInt(int64(n)))
 	}
 	want(t, "the zero value", Number{}, big.NewInt(0))
+}
+
+func TestFraction(t *testing.T) {
+	for _, text := range append(edges(), "-1/2", "7/3", "1000000000000000000/999999999999999999", "-"+strings.Repeat("7", 100)+"/1"+strings.Repeat("0", 99)) {
+		value, _ := new(big.Rat).SetString(text)
+		num, den := Fraction(api.Rat(text))
+		want(t, "the numerator of "+text, num, value.Num())
+		want(t, "the denominator of "+text, den, value.Denom())
+	}
 }
 
 func TestOperations(t *testing.T) {
@@ -99,10 +111,28 @@ func checkPair(t *testing.T, x, y Number) {
 	}
 	if b.Sign() != 0 {
 		want(t, "Divide", Divide(Mul(x, y), y), a)
+		checkDivision(t, x, y)
+		checkDivision(t, Mul(x, y), y)
 	}
 	if a.Sign() > 0 && b.Sign() > 0 {
 		want(t, "Lcm", Lcm(x, y), product.Div(product, divisor))
 	}
+}
+
+// checkDivision compares the quotient and the remainder with those that are rounded down: the Euclidean ones, of numbers with the opposite signs if the divisor is negative.
+func checkDivision(t *testing.T, x, y Number) {
+	t.Helper()
+	a, b := toBig(x), toBig(y)
+	if b.Sign() < 0 {
+		a.Neg(a)
+		b.Neg(b)
+	}
+	quotient, rest := a.DivMod(a, b, new(big.Int))
+	if y.Sign() < 0 {
+		rest.Neg(rest)
+	}
+	want(t, "Quo", Quo(x, y), quotient)
+	want(t, "Rem", Rem(x, y), rest)
 }
 
 // TestMemory checks that an operation does not change its operands.

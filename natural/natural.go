@@ -95,6 +95,15 @@ func appendLimb(text []byte, limb uint32) []byte {
 	return text
 }
 
+// Digits returns the number of digits of a number, without leading zeros: 0 has one.
+func (x Number) Digits() int {
+	if x.IsZero() {
+		return 1
+	}
+	last := len(x.limbs) - 1
+	return limbDigits*last + len(strconv.FormatUint(uint64(x.limbs[last]), 10))
+}
+
 // IsZero reports whether a number is 0.
 func (x Number) IsZero() bool {
 	return len(x.limbs) == 0

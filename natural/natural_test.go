@@ -152,6 +152,14 @@ func TestParse(t *testing.T) {
 	}
 }
 
+func TestDigits(t *testing.T) {
+	for _, text := range []string{"0", "1", "9", "10", "999999999", "1000000000", "9999999999", strings.Repeat("9", 18), strings.Repeat("9", 19), "1" + strings.Repeat("0", 27)} {
+		if x, _ := Parse(text); x.Digits() != len(text) {
+			t.Errorf("digits of %s: got %d", text, x.Digits())
+		}
+	}
+}
+
 func TestWord(t *testing.T) {
 	for _, word := range []uint64{0, 1, base - 1, base, base*base - 1, base * base, base*base + 1, 1<<64 - 1} {
 		got, ok := Of(word).Word()

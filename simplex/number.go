@@ -27,22 +27,14 @@ type vector struct {
 func vectorOf(list []api.Rat) vector {
 	common := integer.Of(1)
 	for _, x := range list {
-		common = integer.Lcm(common, denominator(x))
+		_, den := integer.Fraction(x)
+		common = integer.Lcm(common, den)
 	}
 	num := mapped(list, func(x api.Rat) integer.Number {
-		return integer.Mul(numerator(x), integer.Divide(common, denominator(x)))
+		num, den := integer.Fraction(x)
+		return integer.Mul(num, integer.Divide(common, den))
 	})
 	return vector{num, common}
-}
-
-func numerator(x api.Rat) integer.Number {
-	num, _ := rational.Num(x)
-	return integer.Parse(num)
-}
-
-func denominator(x api.Rat) integer.Number {
-	den, _ := rational.Den(x)
-	return integer.Parse(den)
 }
 
 // expression is a linear expression with integers.

@@ -82,8 +82,9 @@ func isRay(c objective, l []api.Fact, ray []api.Rat) bool {
 
 func hasValue(c objective, point []api.Rat, value api.Rat) bool {
 	at := vectorOf(point)
-	left := integer.Mul(c.at(at), denominator(value))
-	right := integer.Mul(numerator(value), integer.Mul(c.den, at.den))
+	num, den := integer.Fraction(value)
+	left := integer.Mul(c.at(at), den)
+	right := integer.Mul(num, integer.Mul(c.den, at.den))
 	return integer.Compare(left, right) == 0
 }
 
@@ -97,7 +98,8 @@ func isSum(c objective, l []api.Fact, mult []api.Rat, value api.Rat) bool {
 		}
 		sum = sum.plus(expressionOf(f).times(integer.Mul(factors.num[i], c.den)))
 	}
-	left := integer.Mul(sum.constant, denominator(value))
-	right := integer.Mul(numerator(value), integer.Mul(c.den, factors.den))
+	num, den := integer.Fraction(value)
+	left := integer.Mul(sum.constant, den)
+	right := integer.Mul(num, integer.Mul(c.den, factors.den))
 	return sum.isConstant() && integer.Compare(left, right) == 0
 }

@@ -4,26 +4,16 @@ import (
 	"iter"
 
 	"surveyor/api"
+	"surveyor/tree"
 )
 
-// preorder yields the nodes of an expression, each one before its operands, with their depths. It keeps a list of what is left on each level, as expressions can be deeper than calls.
+// preorder yields the nodes of an expression, each one before its operands, with their depths.
 func preorder(e api.Expr) iter.Seq2[api.Expr, int] {
-	return func(yield func(api.Expr, int) bool) {
-		levels := [][]api.Expr{{e}}
-		for len(levels) > 0 {
-			depth := len(levels)
-			rest := levels[depth-1]
-			if len(rest) == 0 {
-				levels = levels[:depth-1]
-				continue
-			}
-			if !yield(rest[0], depth) {
-				return
-			}
-			levels[depth-1] = rest[1:]
-			levels = append(levels, rest[0].Args)
-		}
-	}
+	return tree.Preorder([]api.Expr{e}, operands)
+}
+
+func operands(e api.Expr) []api.Expr {
+	return e.Args
 }
 
 // postorder yields the nodes of a well-formed expression, each one behind its operands.

@@ -157,9 +157,9 @@ func TestP15_2Large(t *testing.T) {
 	reference, _ := referenceBuild(p)
 	want(t, "deep expressions", l, reference, e, api.OK)
 	// As many divisors as a procedure can have.
-	quotients := node(api.ExprDiv, num("1"), variable(0))
-	for range 4 {
-		quotients = node(api.ExprAdd, quotients, quotients)
+	quotients := variable(0)
+	for range 5 {
+		quotients = node(api.ExprDiv, quotients, quotients)
 	}
 	call := api.Stmt{Op: api.StmtCall, Args: slices.Repeat([]api.Expr{quotients}, 12)}
 	p = api.Program{Procs: []api.Proc{{Name: "main", Params: 12, Vars: strings.Fields("a b c d e f g h i j k l"), Body: slices.Repeat([]api.Stmt{call}, 128)}}}

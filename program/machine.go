@@ -1,12 +1,10 @@
 package program
 
 import (
-	"slices"
-
 	"surveyor/api"
-	"surveyor/bigint"
 	"surveyor/cond"
 	"surveyor/expr"
+	"surveyor/memory"
 )
 
 // frame is a procedure at work.
@@ -47,17 +45,10 @@ func (m *machine) top() *frame {
 	return m.frames[len(m.frames)-1]
 }
 
-// zeros returns the values of n variables or elements that have not been assigned.
-func zeros(n int) []api.Int {
-	return slices.Repeat([]api.Int{"0"}, n)
-}
-
 // enter begins with a procedure.
 func (m *machine) enter(p api.Proc, args []api.Int, targets []int) {
-	f := &frame{proc: p, vars: slices.Concat(args, zeros(len(p.Vars)-p.Params)), targets: targets}
-	for _, a := range p.Arrays {
-		f.arrays = append(f.arrays, zeros(a.Len))
-	}
+	f := &frame{proc: p, targets: targets}
+	f.vars, f.arrays = memory.Start(p, args)
 	f.push(p.Body)
 	m.frames = append(m.frames, f)
 }
@@ -150,12 +141,11 @@ func (m *machine) element(s api.Stmt) (*api.Int, int) {
 	if outcome != api.OutcomeRunning {
 		return nil, outcome
 	}
-	array := m.top().arrays[s.Array]
-	index, fault := bigint.Small(value)
-	if fault != api.OK || index < 0 || index >= len(array) {
+	place, found := memory.Element(m.top().arrays[s.Array], value)
+	if !found {
 		return nil, m.fail(api.CheckIndex, s)
 	}
-	return &array[index], api.OutcomeRunning
+	return place, api.OutcomeRunning
 }
 
 // put assigns the value of an expression.

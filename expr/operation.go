@@ -1,10 +1,9 @@
 package expr
 
 import (
-	"strings"
-
 	"surveyor/api"
 	"surveyor/bigint"
+	"surveyor/number"
 )
 
 // values are those of the operands of a node.
@@ -24,15 +23,10 @@ func (v values) compute(op int) (api.Int, api.Errno) {
 	switch {
 	case fault != api.OK:
 		return "", fault
-	case isLong(value):
+	case number.IsLong(value):
 		return "", api.ErrLarge
 	}
 	return value, api.OK
-}
-
-// isLong reports whether a canonical integer has more than api.MaxDigits digits.
-func isLong(a api.Int) bool {
-	return len(strings.TrimPrefix(string(a), "-")) > api.MaxDigits
 }
 
 // Strengths of nodes in texts. What is stronger binds stronger.

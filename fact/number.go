@@ -5,6 +5,7 @@ import (
 
 	"surveyor/api"
 	"surveyor/bigint"
+	"surveyor/number"
 	"surveyor/rational"
 )
 
@@ -48,25 +49,11 @@ func checkList(l []api.Fact, n int) api.Errno {
 
 func checkPoint(point []api.Int) api.Errno {
 	for _, x := range point {
-		if e := checkNumber(x); e != api.OK {
+		if e := number.Check(x); e != api.OK {
 			return e
 		}
 	}
 	return api.OK
-}
-
-func checkNumber(x api.Int) api.Errno {
-	if e := bigint.Check(x); e != api.OK {
-		return e
-	}
-	if !isShort(x) {
-		return api.ErrLarge
-	}
-	return api.OK
-}
-
-func isShort(x api.Int) bool {
-	return len(magnitude(x)) <= api.MaxDigits
 }
 
 // hasModulus reports whether the modulus of a fact is as its kind requires.
@@ -81,7 +68,7 @@ func hasModulus(f api.Fact) bool {
 func finished(l []api.Fact) ([]api.Fact, api.Errno) {
 	for _, f := range l {
 		for x := range numbers(f) {
-			if !isShort(x) {
+			if number.IsLong(x) {
 				return nil, api.ErrLarge
 			}
 		}

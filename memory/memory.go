@@ -6,14 +6,13 @@ import (
 
 	"surveyor/api"
 	"surveyor/bigint"
-	"surveyor/expr"
+	"surveyor/number"
 )
 
 // Check returns the error of the first number that no variable can have.
 func Check(numbers []api.Int) api.Errno {
-	for _, number := range numbers {
-		// Variables have the numbers that expressions have.
-		if fault := expr.Check(api.Expr{Op: api.ExprNum, Num: number}, 0); fault != api.OK {
+	for _, n := range numbers {
+		if fault := number.Check(n); fault != api.OK {
 			return fault
 		}
 	}

@@ -1,10 +1,8 @@
 package simplex
 
 import (
-	"strings"
-
 	"surveyor/api"
-	"surveyor/bigint"
+	"surveyor/number"
 )
 
 // isSize reports whether a program may have n variables.
@@ -40,25 +38,15 @@ func checkConstraint(n int, f api.Fact) api.Errno {
 		return api.ErrShape
 	}
 	for _, x := range f.Coef {
-		if e := checkNumber(x); e != api.OK {
+		if e := number.Check(x); e != api.OK {
 			return e
 		}
 	}
-	if e := checkNumber(f.Const); e != api.OK {
+	if e := number.Check(f.Const); e != api.OK {
 		return e
 	}
 	if f.Mod != "0" {
 		return api.ErrRange
-	}
-	return api.OK
-}
-
-func checkNumber(x api.Int) api.Errno {
-	if e := bigint.Check(x); e != api.OK {
-		return e
-	}
-	if len(strings.TrimPrefix(string(x), "-")) > api.MaxDigits {
-		return api.ErrLarge
 	}
 	return api.OK
 }
